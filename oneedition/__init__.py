@@ -1,0 +1,1 @@
+"""Oneedition: parts of a file from copies that change."""
