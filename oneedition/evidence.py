@@ -5,7 +5,6 @@ from oneedition.comparing import differ
 from oneedition.contents import is_ground
 from oneedition.kinds import is_number_in, is_tuple_of, is_within
 from oneedition.spans import END
-from oneedition.steps import members
 from oneedition.worlds import is_world_for
 
 

@@ -44,8 +44,8 @@ def with_ghost(picture, copy, first, last, mark=None):
 def without_world(site, rows):
     """Return the numbers of answers that have no world, and of which none can be left out, of such answers."""
     kept = rows
-    for row in rows:
-        fewer = tuple([other for other in kept if other.number != row.number])
+    for left_out in rows:
+        fewer = tuple([row for row in kept if row.number != left_out.number])
         if not Picture(site, fewer).fits:
             kept = fewer
     return tuple([row.number for row in kept])

@@ -120,7 +120,7 @@ def _places_of(answers):
         for copy, first, last in answer.places:
             before = found.get(copy, (first, last))
             found[copy] = (min(first, before[0]), max(last, before[1]))
-    return tuple([(copy, found[copy][0], found[copy][1]) for copy in sorted(found)])
+    return tuple([(name, found[name][0], found[name][1]) for name in sorted(found)])
 
 
 def group_of(state, number):

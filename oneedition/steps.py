@@ -24,7 +24,7 @@ def _sharing(words):
     found = {}
     for place, word in enumerate(words):
         found[word] = found.get(word, 0) | 1 << place
-    return [0 if word is None else found[word] for word in words]
+    return [0 if told is None else found[told] for told in words]
 
 
 def _seen_at(rows):

@@ -10,14 +10,14 @@ class Trial:
 
     def __init__(self, keeper):
         self._keeper = keeper
-        self._kept = False
+        self._kept = None
 
     def __enter__(self):
         keeper = self._keeper
         if len(keeper.inside) >= LIMIT:
             raise TooMany(LIMIT)
         # The keeper may have changed since this object was made.
-        self._kept = False
+        self._kept = None
         self._around = keeper.inside
         self._before = keeper.state
         self._now = keeper.now
@@ -31,7 +31,7 @@ class Trial:
     def __exit__(self, kind, value, trace):
         keeper = self._keeper
         keeper.inside = self._around
-        if kind is None and self._kept:
+        if kind is None and self._kept is not None:
             return
         keeper.state = self._before
         keeper.now = self._now

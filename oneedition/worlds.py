@@ -75,7 +75,7 @@ def _contents_hold(picture, editions):
     rows = {}
     for row, edition in zip(picture.rows, editions):
         rows.setdefault(edition, []).append(row)
-    return contents_of([rows[edition] for edition in rows], picture.site.piece) is not None
+    return contents_of(list(rows.values()), picture.site.piece) is not None
 
 
 def is_world(picture, value):

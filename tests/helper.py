@@ -2,7 +2,7 @@
 
 import random
 
-from oneedition.errors import Contradiction
+from oneedition.errors import Contradiction, KeeperError
 from oneedition.keeper import Keeper
 from oneedition.spans import Spans
 from oneedition.texts import show_keeper
@@ -41,11 +41,13 @@ class Fact:
         self.length = length
         self.names = names
         self.nots = set(nots)
+        self.ended = False
         self.told = {position: {byte} for position, byte in (told or {}).items()}
 
     def copied(self):
         fact = Fact(self.number, self.places, self.mark, self.weak, self.length, self.names, self.nots)
         fact.told = {position: set(values) for position, values in self.told.items()}
+        fact.ended = self.ended
         return fact
 
 
@@ -229,6 +231,11 @@ class Log:
         self.keeper.let_go(number, spans)
         self.facts[number].told = {at: told for at, told in self.facts[number].told.items() if at not in spans}
 
+    def end(self, number):
+        self.keeper.ended(number)
+        self.facts[number].ended = True
+        self.time += 1
+
     def ghost(self, copy, first, last, mark=None):
         return Fact(-1, [(copy, first, last)], mark)
 
@@ -246,11 +253,12 @@ COPIES = [
 class Drawn:
     """A drawn history of few answers, in a Log; some of what is drawn is refused as a contradiction."""
 
-    def __init__(self, test, seed, most, kinds="marks weaks bytes lengths names promises changed".split()):
+    def __init__(self, test, seed, most, kinds="marks weaks bytes lengths names promises changed".split(), often=()):
         self.test, self.draw, self.most, self.kinds = test, random.Random(seed), most, kinds
         self.log = Log(self.draw.choice(COPIES), self.draw.choice((1, 2)))
-        self.likely = {kind: self.draw.choice((0.0, 0.3, 0.6)) if kind in kinds else 0.0
-                       for kind in ("marks", "weaks", "bytes", "lengths", "names", "promises", "changed", "drops")}
+        self.likely = {kind: self.draw.choice((0.0, 0.4, 0.8)) if kind in kinds else 0.0
+                       for kind in ("marks", "weaks", "bytes", "lengths", "names", "promises", "changed", "drops", "ends")}
+        self.likely.update({kind: 0.8 for kind in often})
         self.words = self.draw.choice((2, 3))
 
     def has(self, kind):
@@ -259,11 +267,9 @@ class Drawn:
     def word(self, letter):
         return f"{letter}{self.draw.randrange(self.words)}"
 
-    def run(self, steps=60):
-        for _ in range(steps):
+    def run(self, steps=None):
+        for _ in range(steps or self.draw.choice((15, 25, 40))):
             self.step()
-            if len(self.log.facts) >= self.most and not self.log.asks:
-                break
         return self.log
 
     def step(self):
@@ -271,16 +277,19 @@ class Drawn:
         kind = draw.random()
         if kind < 0.1:
             log.wait(draw.randint(1, 3))
-        elif kind < 0.45 and len(log.facts) + len(log.asks) < self.most:
+        elif kind < 0.4 and len(log.facts) + len(log.asks) < self.most:
             log.ask(draw.choice(log.copies)[0], only=self.word("m") if self.has("changed") else None)
-        elif kind < 0.8 and log.asks:
+        elif kind < 0.7 and log.asks:
             self.answer(draw.choice(sorted(log.asks)))
         elif log.facts:
             number = draw.choice(sorted(log.facts))
-            if self.has("drops"):
+            if self.has("drops") and draw.random() < 0.4:
                 log.let_go(number, Spans((draw.randrange(3), 3)))
-            elif self.has("bytes") and not log.facts[number].nots:
-                self.part(number)
+            elif not log.facts[number].nots and not log.facts[number].ended:
+                if self.has("ends"):
+                    log.end(number)
+                elif self.has("bytes"):
+                    self.part(number)
 
     def answer(self, number):
         log, draw = self.log, self.draw
@@ -300,3 +309,191 @@ class Drawn:
         draw = self.draw
         many = draw.randint(1, 2)
         self.log.part(self.test, number, draw.randrange(4), tuple(draw.randrange(2) for _ in range(many)))
+
+
+# What no parameter but those for bytes, names, numbers or words takes.
+STRANGE = [None, True, False, 0, 1, -1, HUGE, -HUGE, "", "no such", "M1", "m_1", "0", "toolongword", "\xe4", "\u0661",
+           (), (0,), (1, 2), [], [0], {}, {0: 1}, ("m1",), ["m1"], {"m1": 1}, nested(20)]
+
+
+def shown(keeper):
+    """Return all of a keeper that an event changes."""
+    return show_keeper(keeper), keeper.now, keeper.open_asks, keeper.answers
+
+
+def check_refused(test, keeper, error_class, value, deed):
+    """Check that a deed raises just this error with just this value, and changes nothing."""
+    before = shown(keeper)
+    with test.assertRaises(KeeperError) as context:
+        deed()
+    error = context.exception
+    test.assertIs(type(error), error_class)
+    kept = list(vars(error).values())
+    test.assertEqual(len(kept), 1)
+    test.assertIs(type(kept[0]), type(value))
+    test.assertEqual(kept[0], value)
+    test.assertEqual(shown(keeper), before)
+
+
+def strange_but(*good):
+    """Return any values without these."""
+    kinds = [(type(value), value) for value in good]
+    return [value for value in any_values() + STRANGE if (type(value), value) not in kinds]
+
+
+class Known:
+    """What is known of editions by the facts of a log, without the program but for its groups (tested by themselves)."""
+
+    def __init__(self, log):
+        self.log, self.facts, self.piece = log, log.facts, log.piece
+        self.groups = {number: group for group in log.keeper.groups() for number in group}
+
+    def values(self, number, name):
+        found = {getattr(self.facts[other], name) for other in self.groups[number]} - {None}
+        assert len(found) <= 1
+        return found.pop() if found else None
+
+    def tellers(self, number, position):
+        """The answers of a group that told the byte at a position, which they have not let go."""
+        return [other for other in self.groups[number] if position in self.facts[other].told]
+
+    def name_at(self, number, position):
+        """The name that one answer told for the piece with this position."""
+        names = self.facts[number].names or ()
+        return names[position // self.piece] if position // self.piece < len(names) else None
+
+    def grounds(self, number, position):
+        """All grounds for a byte of an answer's edition."""
+        found = {(other,) for other in self.tellers(number, position)}
+        for namer in self.groups[number]:
+            for other in self.facts:
+                name = self.name_at(namer, position)
+                if name is not None and name == self.name_at(other, position):
+                    found |= {(namer, other, teller) for teller in self.tellers(other, position)}
+        return found
+
+    def bytes(self, number, positions=range(8)):
+        """The known bytes of an answer's edition."""
+        found = {}
+        for position in positions:
+            grounds = self.grounds(number, position)
+            if grounds:
+                found[position], = {byte for ground in grounds for byte in self.facts[ground[-1]].told[position]}
+        return found
+
+    def differ(self, one, other):
+        """Whether two answers are different, by what is known of their editions."""
+        for name in ("mark", "weak", "length", "names"):
+            values = {self.values(one, name), self.values(other, name)} - {None}
+            if len(values) > 1:
+                return True
+        for first, second in ((one, other), (other, one)):
+            nots = {mark for number in self.groups[second] for mark in self.facts[number].nots}
+            length = self.values(second, "length")
+            if self.values(first, "mark") in nots:
+                return True
+            if length is not None and any(position >= length for position in self.bytes(first)):
+                return True
+        mine, theirs = self.bytes(one), self.bytes(other)
+        return any(mine[position] != theirs[position] for position in mine if position in theirs)
+
+    def is_number(self, value):
+        return type(value) is int and value in self.facts
+
+    def step(self, one, other, weak):
+        """Whether a step leads from one answer to another, over the weak mark too or not."""
+        first, second = self.facts[one], self.facts[other]
+        if one == other:
+            return False
+        return (is_not_newer_by_time(first, second, self.log.above)
+                or first.mark is not None and first.mark == second.mark
+                or weak and first.weak is not None and first.weak == second.weak)
+
+    def is_way(self, value, starts, goals):
+        return (type(value) is tuple and len(value) > 0 and all(self.is_number(number) for number in value)
+                and value[0] in starts and value[-1] in goals
+                and all(self.step(one, other, True) for one, other in zip(value, value[1:])))
+
+    def is_meaning(self, v, w, ways, starts, goals):
+        if not self.is_number(v) or not self.is_number(w) or type(ways) is not tuple or len(ways) != 4:
+            return False
+        if len({self.facts[v].weak, self.facts[w].weak} - {None}) != 2:
+            return False
+        ends = [(starts, [v]), ([v], goals), (starts, [w]), ([w], goals)]
+        return all(self.is_way(way, *end) for way, end in zip(ways, ends))
+
+    def is_link(self, link):
+        if type(link) is not tuple or len(link) != 3:
+            return False
+        start, stop, ground = link
+        if not self.is_number(start) or not self.is_number(stop) or start == stop:
+            return False
+        if ground is None:
+            return self.step(start, stop, False)
+        return type(ground) is tuple and len(ground) == 3 and self.is_meaning(*ground, [start], [stop])
+
+    def is_chain(self, value, starts, goals):
+        if type(value) is not tuple or not all(self.is_link(link) for link in value):
+            return False
+        if not value:
+            return bool(set(starts) & set(goals))
+        return (value[0][0] in starts and value[-1][1] in goals
+                and all(one[1] == other[0] for one, other in zip(value, value[1:])))
+
+    def is_reason(self, a, b, word, value):
+        """What shows_reason must tell."""
+        if word != "same":
+            return self.is_chain(value, *(([a], [b]) if word == "newer" else ([b], [a])))
+        if type(value) is not tuple or len(value) != 4:
+            return False
+        kind, v, w, told = value
+        if type(kind) is str and kind == "meaning":
+            return self.is_meaning(v, w, told, [a, b], [a, b])
+        if type(kind) is not str or kind != "edition" or not self.is_number(v) or not self.is_number(w):
+            return False
+        ends = [([a, b], [v]), ([v], [a, b]), ([a, b], [w]), ([w], [a, b])]
+        return (self.differ(v, w) and type(told) is tuple and len(told) == 4
+                and all(self.is_chain(chain, *end) for chain, end in zip(told, ends)))
+
+    def is_world(self, a, b, word, value):
+        """What shows_world must tell."""
+        facts = self.log.rows()
+        if type(value) is not tuple or len(value) != len(facts):
+            return False
+        for fact, row in zip(facts, value):
+            if type(row) is not tuple or [type(number) for number in row] != [int] * 3 or row[0] != fact.number:
+                return False
+        for one, (_, edition, meaning) in zip(facts, value):
+            for other, (_, another, unlike) in zip(facts, value):
+                told = [None not in words and words[0] == words[1] for words in
+                        ((one.mark, other.mark), (one.weak, other.weak))]
+                apart = [None not in words and words[0] != words[1] for words in
+                         ((one.mark, other.mark), (one.weak, other.weak))]
+                if (told[0] and edition != another or apart[0] and edition == another
+                        or one.mark in other.nots and edition == another
+                        or edition == another and meaning != unlike or edition > another and meaning < unlike
+                        or told[1] and meaning != unlike or apart[1] and meaning == unlike
+                        or edition > another and is_not_newer_by_time(one, other, self.log.above)):
+                    return False
+        editions = {}
+        for fact, row in zip(facts, value):
+            editions.setdefault(row[1], []).append(fact)
+        if not all(agree(rows) for rows in editions.values()) or not names_agree(editions.values(), self.piece):
+            return False
+        found = {row[0]: row[1] for row in value}
+        return word_of(found[a], found[b]) == word
+
+
+def variants(value, numbers):
+    """Return values with one part otherwise."""
+    if type(value) is tuple:
+        found = [list(value), value + value[-1:], (value,), value[:-1], value[::-1]]
+        for at, part in enumerate(value):
+            found += [value[:at] + value[at + 1:], value[:at] + (part,) + value[at:]]
+            found += [value[:at] + (other,) + value[at + 1:] for other in variants(part, numbers)]
+        return [other for other in found if type(other) is not tuple or other != value]
+    if type(value) is int:
+        return [number for number in numbers if number != value] + [value == 1, None, str(value), (value,), HUGE, -1]
+    if value is None:
+        return [(), 0, False, "", (0, 1, ((0,), (0,), (0,), (0,)))]
+    return ["edition", "meaning", "", None, 0]

@@ -58,10 +58,10 @@ class Beside(unittest.TestCase):
 
 class Drawings(Beside):
 
-    def check_seeds(self, seeds, most, kinds):
+    def check_seeds(self, seeds, most, kinds, often=""):
         for seed in seeds:
             with self.subTest(seed=seed, most=most, kinds=kinds):
-                log = Drawn(self, seed, most, kinds.split()).run()
+                log = Drawn(self, seed, most, kinds.split(), often.split()).run()
                 self.check_comparing(log)
                 self.check_having(log)
 
@@ -75,7 +75,8 @@ class Drawings(Beside):
         self.check_seeds(range(150), 4, "marks bytes lengths promises drops")
 
     def test_names(self):
-        self.check_seeds(range(200), 4, "bytes lengths names drops")
+        self.check_seeds(range(150), 4, "bytes lengths names drops", "bytes lengths names")
+        self.check_seeds(range(150), 4, "bytes lengths names drops marks promises", "bytes lengths names")
 
     def test_everything(self):
         self.check_seeds(range(400), 4, "marks weaks bytes lengths names promises changed drops")
