@@ -14,6 +14,8 @@ class Picture:
     def __init__(self, site, rows):
         self.site = site
         self.rows = rows
+        # The pictures with a ghost that were asked for, since they are asked for again and again.
+        self.ghosts = {}
         self.place = {row.number: place for place, row in enumerate(rows)}
         self.steps = Steps(site, rows)
         masks = [self.steps.group(place) for place in range(len(rows))]
@@ -37,8 +39,11 @@ class Picture:
 
 def with_ghost(picture, copy, first, last, mark=None):
     """Return the picture with an answer behind the others that is not there and tells nothing but its mark."""
-    ghost = Answer(GHOST, ((copy, first, last),), "open", mark)
-    return Picture(picture.site, picture.rows + (ghost,))
+    key = (copy, first, last, mark)
+    if key not in picture.ghosts:
+        ghost = Answer(GHOST, ((copy, first, last),), "open", mark)
+        picture.ghosts[key] = Picture(picture.site, picture.rows + (ghost,))
+    return picture.ghosts[key]
 
 
 def without_world(site, rows):

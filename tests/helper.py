@@ -497,3 +497,153 @@ def variants(value, numbers):
     if value is None:
         return [(), 0, False, "", (0, 1, ((0,), (0,), (0,), (0,)))]
     return ["edition", "meaning", "", None, 0]
+
+
+class Edition:
+    """A hidden edition."""
+
+    def __init__(self, number, meaning, values, names):
+        self.number, self.meaning, self.values, self.names = number, meaning, values, names
+        self.mark, self.weak = f"m{number}", f"w{meaning}"
+
+
+class Hidden:
+    """A hidden truth: editions that come up, copies that take them over, and answers that tell what is true of them.
+
+    What happens between two events happens ahead of the later one, behind the moment of the time of the earlier one.
+    """
+
+    def __init__(self, seed, copies, piece):
+        self.draw, self.copies, self.piece = random.Random(seed), dict(copies), piece
+        self.editions, self.named = [], {}
+        self.add_edition()
+        self.now = 0
+        self.at = {copy: 0 for copy in self.copies}
+        self.kept_until = {copy: 0 for copy in self.copies}
+        # What each copy had, with the time behind which it had it.
+        self.had = {copy: [(0, 0)] for copy in self.copies}
+        self.under_way, self.answers = {}, {}
+        self.busy = self.draw.choice((0.02, 0.08, 0.2))
+        self.likely = {kind: self.draw.choice((0.2, 0.5, 0.9)) for kind in
+                       ("mark", "weak", "length", "names", "promise", "only")}
+
+    def add_edition(self):
+        """Add an edition that is new, but for most of its bytes."""
+        draw = self.draw
+        if not self.editions:
+            values, meaning = [draw.randrange(9) for _ in range(draw.randint(3, 12))], 0
+        else:
+            last = self.editions[-1]
+            values, meaning = list(last.values), last.meaning + (draw.random() < 0.4)
+            for _ in range(draw.randint(1, 2)):
+                if values:
+                    values[draw.randrange(len(values))] = draw.randrange(9)
+            if draw.random() < 0.3:
+                values = (values + [draw.randrange(9)] * 2)[:draw.randint(0, len(values) + 2)]
+        names = tuple(self.name_of(k, tuple(values[k:k + self.piece])) for k in range(0, len(values), self.piece))
+        self.editions.append(Edition(len(self.editions), meaning, tuple(values), names))
+
+    def name_of(self, start, values):
+        """The name of a piece: the same just for the same bytes at the same place."""
+        table = self.named.setdefault(start, {})
+        return table.setdefault(values, f"p{len(table)}")
+
+    def has(self, kind):
+        return self.draw.random() < self.likely[kind]
+
+    def gap(self):
+        """Let things happen ahead of the next event."""
+        draw = self.draw
+        if draw.random() < self.busy:
+            self.add_edition()
+        for _ in range(3):
+            for copy in self.copies:
+                if draw.random() < self.busy * 2 and self.kept_until[copy] <= self.now:
+                    self.move(copy)
+            for number in self.under_way:
+                if draw.random() < 0.3:
+                    self.make(number)
+
+    def move(self, copy):
+        """Let a copy take over an edition that is not older than its own."""
+        above = self.copies[copy]
+        choice = range(len(self.editions)) if above is None else [edition for _, edition in self.had[above]]
+        better = [edition for edition in choice if edition >= self.at[copy]]
+        self.at[copy] = self.draw.choice(better)
+        self.had[copy].append((self.now, self.at[copy]))
+
+    def make(self, number):
+        """Let an answer be made, if it is not made yet."""
+        copy, only, edition, _ = self.under_way[number]
+        if edition is None:
+            until = None
+            if self.has("promise"):
+                until = self.now + self.draw.randint(1, 12)
+                self.kept_until[copy] = max(self.kept_until[copy], until)
+            self.under_way[number] = (copy, only, self.editions[self.at[copy]], until)
+
+    def had_since(self, copy, begun):
+        """The editions that a copy had at moments from this time to now."""
+        times = [time for time, _ in self.had[copy]]
+        # A move behind a time is a move ahead of the next one; the last one of a time before stands at the time.
+        first = max(at for at, time in enumerate(times) if time < begun or at == 0)
+        return {edition for _, edition in self.had[copy][first:]}
+
+    def event(self, most):
+        """Return what happens next, as a name and arguments for a keeper, or None."""
+        draw, kind = self.draw, self.draw.random()
+        self.gap()
+        flowing = [number for number, told in self.answers.items() if told["flows"]]
+        asked = len(self.answers) + len(self.under_way) + self.lost_many
+        if kind < 0.3 and asked < most:
+            copy = draw.choice(sorted(self.copies))
+            only = draw.choice(self.editions[-3:]).mark if self.has("only") else None
+            spans = None if draw.random() < 0.5 else Spans((0, 3))
+            self.under_way[asked] = (copy, only, None, None)
+            return "ask", (copy, spans), {"only": only}
+        if kind < 0.65 and self.under_way:
+            return self.answer(draw.choice(sorted(self.under_way)))
+        if kind < 0.9 and flowing:
+            number = draw.choice(flowing)
+            if draw.random() < 0.3:
+                self.answers[number]["flows"] = False
+                return "ended", (number,), {}
+            return self.part(number)
+        return "wait", (draw.randint(1, 3),), {}
+
+    def answer(self, number):
+        draw = self.draw
+        if draw.random() < 0.05:
+            del self.under_way[number]
+            self.lost_many += 1
+            return "lost", (number,), {}
+        self.make(number)
+        copy, only, edition, until = self.under_way.pop(number)
+        told = {"edition": edition, "copy": copy, "flows": False}
+        self.answers[number] = told
+        if only is not None and only != edition.mark:
+            return "changed", (number,), {}
+        told["flows"] = True
+        words = {"mark": edition.mark if self.has("mark") else None, "weak": edition.weak if self.has("weak") else None}
+        if self.has("length"):
+            words["length"] = len(edition.values)
+            words["names"] = edition.names if self.has("names") else None
+        if until is not None and until > self.now:
+            words["until"] = until
+        return "head", (number,), words
+
+    def part(self, number):
+        values = self.answers[number]["edition"].values
+        if not values:
+            return "wait", (1,), {}
+        start = self.draw.randrange(len(values))
+        return "part", (number, start, values[start:start + self.draw.randint(1, 5)]), {}
+
+    lost_many = 0
+
+    def passes(self, keeper_now):
+        """Let the moments of a wait go by one by one."""
+        while self.now < keeper_now:
+            self.now += 1
+            if self.now < keeper_now:
+                self.gap()
