@@ -94,7 +94,8 @@ def contents_of(editions, piece):
 
 def is_all_known(content):
     """Tell whether the length and all bytes are known."""
-    return content.size is not None and len(spans_of(content.runs)) == content.size
+    # No byte stands behind the length, and None is no number of bytes.
+    return len(spans_of(content.runs)) == content.size
 
 
 def name_at(content, position, piece):

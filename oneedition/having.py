@@ -31,7 +31,7 @@ def possible_at(state, copy):
 def _was_under(picture, places, copy):
     """Tell whether some answer of these places is of a copy that is under this one."""
     above = picture.site.above
-    return any([copy in above[other] for place in places for other, _, _ in picture.rows[place].places])
+    return any([copy in above[other] for place in places for other, _, _ in picture.rows[place].seen])
 
 
 def had_since(state, copy, begun):
@@ -44,7 +44,7 @@ def had_since(state, copy, begun):
 
 def _can_be_of(state, copy, sent, only, place):
     """Tell whether an answer to come of this copy, to an ask sent at this time, can be of an answer's edition."""
-    lasts = [last for row in state.picture.rows for _, _, last in row.places]
+    lasts = [last for row in state.picture.rows for _, _, last in row.seen]
     behind = max([state.time] + lasts) + 1
     picture = with_ghost(state.picture, copy, behind, sent, only)
     return picture.fits and may_be_same(picture, picture.place[GHOST], place)

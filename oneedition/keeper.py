@@ -168,7 +168,7 @@ class Keeper:
 
     def sightings(self, a):
         """Return where and when a's edition was seen by this answer: tuples (copy, first, last)."""
-        return self.state.picture.rows[self._place(a)].places
+        return self.state.picture.rows[self._place(a)].seen
 
     def may_have(self, copy, a):
         """Tell whether a copy may have a's edition now."""

@@ -35,9 +35,9 @@ def _head_lines(answer):
 
 def _answer_lines(answer):
     """Return the lines of an answer."""
-    places = [f"at {copy} {first} {last}" for copy, first, last in answer.places]
+    seen = [f"at {copy} {first} {last}" for copy, first, last in answer.seen]
     runs = [" ".join(["bytes", str(start)] + [str(byte) for byte in values]) for start, values in answer.runs]
-    return [f"answer {answer.number} {answer.stage}"] + places + _head_lines(answer) + runs
+    return [f"answer {answer.number} {answer.stage}"] + seen + _head_lines(answer) + runs
 
 
 def text_of(state):

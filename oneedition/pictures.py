@@ -25,8 +25,8 @@ class Picture:
         told = contents_of([[rows[place] for place in places] for places in self.editions], site.piece)
         found = [] if told is None else told
         self.contents = {places[0]: content for places, content in zip(self.editions, found)}
-        self.fits = told is not None and not any([self.steps.are_two(self.steps.tied_by_meaning(place, place))
-                                                  for place in range(len(rows))])
+        # Answers that must have one meaning, but told two weak marks, are older than each other, so one group, too.
+        self.fits = told is not None
 
     def content(self, place):
         """Return what is known of the edition of an answer."""

@@ -135,7 +135,7 @@ class Reader:
         word, stage = self._words("answer", 2)
         number = self._new_number(word, list(self.told))
         self._need(stage in STAGES)
-        fields = {"number": number, "places": (), "stage": stage}
+        fields = {"number": number, "seen": (), "stage": stage}
         self.told[number] = fields
         self.at = self.at + 1
         self._read_place(fields)
@@ -149,10 +149,10 @@ class Reader:
     def _read_place(self, fields):
         """Read a line of a sighting."""
         copy, first_word, last_word = self._words("at", 3)
-        places = fields["places"]
-        self._need(copy in self.site.above and (not places or places[-1][0] < copy))
+        seen = fields["seen"]
+        self._need(copy in self.site.above and (not seen or seen[-1][0] < copy))
         first, last = self._number(first_word, 1, self.time), self._number(last_word, 1, LAST_TIME)
-        fields["places"] = places + ((copy, first, last),)
+        fields["seen"] = seen + ((copy, first, last),)
         self.at = self.at + 1
 
     def _read_head(self, fields):
@@ -195,8 +195,8 @@ class Reader:
         below = runs[-1][0] + len(runs[-1][1]) if runs else -1
         start = self._number(words[0], below + 1, END - 1)
         values = tuple([_number_of(word) for word in words[1:]])
+        # Whether they fit in the length is a part of whether there is a world.
         self._need(are_bytes(values, start))
-        self._need("size" not in fields or start + len(values) <= fields["size"])
         fields["runs"] = runs + ((start, values),)
         self.at = self.at + 1
 

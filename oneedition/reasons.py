@@ -1,6 +1,7 @@
 """Evidence (section 10) that two answers' editions are not older, the same or newer: how to find it."""
 
 from oneedition.comparing import differ, is_not_newer, may_be_same
+from oneedition.contents import union
 from oneedition.steps import members
 
 
@@ -62,12 +63,11 @@ def _chain(picture, starts, goals):
 
 
 def _two_different(picture, places):
-    """Return two different answers of these places."""
-    for one in places:
-        for other in places:
-            if differ(picture, one, other):
-                return one, other
-    return None
+    """Return two different answers of these places, if there are such two that told it themselves."""
+    rows = picture.rows
+    pairs = [(one, other) for one in places for other in places]
+    told = [(one, other) for one, other in pairs if union([rows[one], rows[other]]) is None]
+    return told[0] if told else [(one, other) for one, other in pairs if differ(picture, one, other)][0]
 
 
 def _why_not_same(picture, one, other):

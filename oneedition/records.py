@@ -33,11 +33,11 @@ class Ask:
 
 
 class Answer:
-    """An answer with all that it told; places are its sightings, and stage is "open", "ended" or "changed"."""
+    """An answer with all that it told; seen are its sightings, and stage is "open", "ended" or "changed"."""
 
-    def __init__(self, number, places, stage, mark=None, weak=None, size=None, names=None, nots=(), runs=()):
+    def __init__(self, number, seen, stage, mark=None, weak=None, size=None, names=None, nots=(), runs=()):
         self.number = number
-        self.places = places
+        self.seen = seen
         self.stage = stage
         self.mark = mark
         self.weak = weak
@@ -49,11 +49,11 @@ class Answer:
 
 def with_runs(answer, runs):
     """Return this answer as if it had told these bytes and no others."""
-    return Answer(answer.number, answer.places, answer.stage, answer.mark, answer.weak, answer.size, answer.names,
+    return Answer(answer.number, answer.seen, answer.stage, answer.mark, answer.weak, answer.size, answer.names,
                   answer.nots, runs)
 
 
 def with_stage(answer, stage):
     """Return this answer in another stage."""
-    return Answer(answer.number, answer.places, stage, answer.mark, answer.weak, answer.size, answer.names,
+    return Answer(answer.number, answer.seen, stage, answer.mark, answer.weak, answer.size, answer.names,
                   answer.nots, answer.runs)

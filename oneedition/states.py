@@ -81,9 +81,9 @@ def after_answer(state, number, stage, mark, weak, size, until, names):
     """Return the state behind the event that an answer begins; one by changed tells only that it has no mark."""
     ask = state.asks[number]
     last = ask.sent if until is None else max(ask.sent, until)
-    places = ((ask.source, state.time + 1, last),)
+    seen = ((ask.source, state.time + 1, last),)
     nots = (ask.only,) if stage == "changed" else ()
-    answer = Answer(number, places, stage, mark, weak, size, names, nots)
+    answer = Answer(number, seen, stage, mark, weak, size, names, nots)
     return later(_checked(_put(_closed(state, number), answer)), 1)
 
 
@@ -113,11 +113,11 @@ def after_letting_go(state, number, spans):
     return _put(state, with_runs(answer, cut_to(answer.runs, spans_of(answer.runs) - spans)))
 
 
-def _places_of(answers):
+def _sightings_of(answers):
     """Return the sightings of all these answers, one for each copy."""
     found = {}
     for answer in answers:
-        for copy, first, last in answer.places:
+        for copy, first, last in answer.seen:
             before = found.get(copy, (first, last))
             found[copy] = (min(first, before[0]), max(last, before[1]))
     return tuple([(name, found[name][0], found[name][1]) for name in sorted(found)])
@@ -140,7 +140,7 @@ def after_fold(state, number):
     for answer in answers[1:]:
         del told[answer.number]
         gone[answer.number] = least
-    told[least] = Answer(least, _places_of(answers), stage, all_told.mark, all_told.weak, all_told.size,
+    told[least] = Answer(least, _sightings_of(answers), stage, all_told.mark, all_told.weak, all_told.size,
                          all_told.names, all_told.nots, all_told.runs)
     return _with_told(state, told, gone)
 

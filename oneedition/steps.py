@@ -31,7 +31,7 @@ def _seen_at(rows):
     """Return, for each copy, the list of (last, bit) of the answers that were seen there."""
     found = {}
     for place, row in enumerate(rows):
-        for copy, _, last in row.places:
+        for copy, _, last in row.seen:
             found.setdefault(copy, []).append((last, 1 << place))
     return found
 
@@ -42,7 +42,7 @@ def _by_time(site, rows):
     found = []
     for row in rows:
         mask = 0
-        for copy, first, _ in row.places:
+        for copy, first, _ in row.seen:
             for upper in site.above[copy]:
                 for last, bit in seen.get(upper, ()):
                     if first <= last:

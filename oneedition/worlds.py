@@ -49,7 +49,7 @@ def _marks_hold(one, other, editions):
     same = editions[0] == editions[1]
     if one.mark is not None and other.mark is not None and same != (one.mark == other.mark):
         return False
-    return not same or one.mark not in other.nots and other.mark not in one.nots
+    return not same or one.mark not in other.nots
 
 
 def _meanings_hold(one, other, editions, meanings):
@@ -67,7 +67,7 @@ def _times_hold(site, one, other, editions):
     if editions[0] <= editions[1]:
         return True
     return not any([first <= last and upper in site.above[copy]
-                    for copy, first, _ in one.places for upper, _, last in other.places])
+                    for copy, first, _ in one.seen for upper, _, last in other.seen])
 
 
 def _contents_hold(picture, editions):

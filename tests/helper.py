@@ -409,6 +409,35 @@ class Known:
                 or first.mark is not None and first.mark == second.mark
                 or weak and first.weak is not None and first.weak == second.weak)
 
+    def path(self, starts, goals, weak=True):
+        """Some answers over which steps lead from the starts to the goals, None if they do not."""
+        paths = [(start,) for start in starts]
+        for path in paths:
+            if path[-1] in goals:
+                return path
+            seen = {number for other in paths for number in other}
+            paths += [path + (number,) for number in self.facts
+                      if number not in seen and self.step(path[-1], number, weak)]
+        return None
+
+    def candidates(self, a, b, word):
+        """Values that have the form of evidence, with good ways over any two answers; they may be evidence or not."""
+        found = []
+        for v in self.facts:
+            for w in self.facts:
+                starts, goals = ([a], [b]) if word == "newer" else ([b], [a]) if word == "older" else ([a, b], [a, b])
+                ends = ((starts, [v]), ([v], goals), (starts, [w]), ([w], goals))
+                ways = tuple(self.path(*end) for end in ends)
+                if None not in ways and word == "same":
+                    found.append(("meaning", v, w, ways))
+                elif None not in ways:
+                    found.append(((starts[0], goals[0], (v, w, ways)),))
+                paths = [self.path(*end, False) for end in ends]
+                if None not in paths and word == "same":
+                    found.append(("edition", v, w, tuple(
+                        tuple((one, other, None) for one, other in zip(path, path[1:])) for path in paths)))
+        return found
+
     def is_way(self, value, starts, goals):
         return (type(value) is tuple and len(value) > 0 and all(self.is_number(number) for number in value)
                 and value[0] in starts and value[-1] in goals

@@ -13,6 +13,9 @@ WORDS = ("older", "same", "newer")
 
 class Drawings(unittest.TestCase):
 
+    def setUp(self):
+        self.formed = {True: 0, False: 0}
+
     def some(self, draw, values, many):
         return draw.sample(values, min(many, len(values)))
 
@@ -20,6 +23,7 @@ class Drawings(unittest.TestCase):
         """Take what is told, and look at what is told with one part otherwise."""
         keeper, known, numbers = log.keeper, Known(log), sorted(log.facts)
         counts = {True: 0, False: 0}
+        self.check_candidates(log, known)
         for a in numbers:
             for b in numbers:
                 for word in WORDS:
@@ -43,6 +47,15 @@ class Drawings(unittest.TestCase):
                         self.check_worlds(log, known, draw, (a, b, word), world, counts)
         return counts
 
+    def check_candidates(self, log, known):
+        for a in log.facts:
+            for b in log.facts:
+                for word in WORDS:
+                    for value in known.candidates(a, b, word):
+                        took = shows_reason(log.keeper, a, b, word, value)
+                        self.assertIs(took, known.is_reason(a, b, word, value), (a, b, word, value))
+                        self.formed[took] += 1
+
     def check_worlds(self, log, known, draw, asked, world, counts):
         moved = tuple((number, edition * 7 - 10 ** 30, meaning * 3 - 5) for number, edition, meaning in world)
         self.assertTrue(shows_world(log.keeper, *asked, moved))
@@ -63,6 +76,8 @@ class Drawings(unittest.TestCase):
         # Some of what is otherwise is evidence still.
         self.assertGreater(counts[True], 500)
         self.assertGreater(counts[False], 5000)
+        self.assertGreater(self.formed[True], 300)
+        self.assertGreater(self.formed[False], 3000)
 
     def test_any_value_is_looked_at(self):
         log = Drawn(self, 3, 4).run()
