@@ -62,7 +62,7 @@ def check_answers(picture, a, b):
 
 
 def check_word(value):
-    if not isinstance(value, str) or value not in ("older", "same", "newer"):
+    if value not in ("older", "same", "newer"):
         raise NoWord(value)
 
 

@@ -10,14 +10,15 @@ class Trial:
 
     def __init__(self, keeper):
         self._keeper = keeper
-        self._kept = None
+        # None if what is done stays.
+        self._taken_back = True
 
     def __enter__(self):
         keeper = self._keeper
         if len(keeper.inside) >= LIMIT:
             raise TooMany(LIMIT)
         # The keeper may have changed since this object was made.
-        self._kept = None
+        self._taken_back = True
         self._around = keeper.inside
         self._before = keeper.state
         self._now = keeper.now
@@ -31,7 +32,7 @@ class Trial:
     def __exit__(self, kind, value, trace):
         keeper = self._keeper
         keeper.inside = self._around
-        if kind is None and self._kept is not None:
+        if kind is None and self._taken_back is None:
             return
         keeper.state = self._before
         keeper.now = self._now
@@ -40,4 +41,4 @@ class Trial:
 
     def keep(self):
         """Let all that is done stay when the block ends without an error."""
-        self._kept = True
+        self._taken_back = None

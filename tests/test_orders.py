@@ -210,6 +210,20 @@ class Orders(unittest.TestCase):
         self.assertEqual([order.had(), order.offers(), order.take(), order.asking()], [(0,), (0,), (0, ()), None])
         later = keeper.order("x", Spans())
         self.assertEqual([later.had(), later.asking()], [(), (Spans(), "m1")])
+        # An ask for no positions is a question whether the copy still has this edition.
+        spans, only = later.asking()
+        number = keeper.ask("x", spans, only=only)
+        self.assertEqual(keeper.tried(lambda trial: keeper.head(number)), None)
+        keeper.head(number)
+        self.assertEqual([later.had(), later.take(), later.asking()], [(0,), (0, ()), None])
+
+    def test_an_ask_for_no_positions_is_answered_by_changed(self):
+        keeper = Keeper(XYZ)
+        keeper.head(keeper.ask("x"), mark="m1")
+        order = keeper.order("x", Spans())
+        keeper.changed(keeper.ask("x", Spans(), only="m1"))
+        self.assertEqual([order.had(), order.take(), keeper.has("x", 0), keeper.may_have("x", 0)],
+                         [(1,), (1, ()), False, False])
 
     def test_asking_for_fewest_positions(self):
         keeper = Keeper(XYZ)
