@@ -307,6 +307,7 @@ class Lines(Reading):
                 (told + "length 4\nnames p", told + "names p", 7),
                 (told + "length 1000000", told + "length 1000001", 7), (told + "length 0", told + "length 00", 7),
                 (told + "mark m1\nnot m2", told + "mark m1\nnot m1", 8), (told + "not a b", told + "not b a", 7),
+                (told + "not a b", told + "not A b", 7), (told + "not a b", told + "not a bB", 7),
                 (told + "not a", told + "not a a", 7), (told + "not a", told + "not", 7),
                 (told + "bytes 0 0 255", told + "bytes 0 0 256", 7), (told + "bytes 0 1", told + "bytes 0", 7),
                 (told + "bytes 999999 1", told + "bytes 999999 1 1", 7), (told + "bytes 999999 1", told + "bytes 1000000 1", 7),
